@@ -1,0 +1,1 @@
+"""Fieldgate: values kept in fields that open and shut like brackets."""
