@@ -14,15 +14,17 @@ def function_called(program, name):
     raise NoName(f"no function is called {name}")
 
 
+# Kinds are never written out in a refusal: pairs of the same in both halves, again and again,
+# make kinds of a length that no text could hold.
 def want_kind(kind, wanted):
     if kind != wanted:
-        raise NoKind(f"{kind!r} stands where {wanted!r} is wanted")
+        raise NoKind("one kind stands where another one is wanted")
 
 
 # A kind that must be a list or a pair; of what, is left open.
 def want_made_by(kind, word):
     if kind[0] != word:
-        raise NoKind(f"{kind!r} stands where a {word} is wanted")
+        raise NoKind(f"another kind stands where a {word} is wanted")
 
 
 def kind_of_call(program, name, kinds):

@@ -211,3 +211,58 @@ def all_whole(value):
     if isinstance(value, (list, tuple)):
         return type(value) in (list, tuple) and all(all_whole(within) for within in value)
     return type(value) in (int, str)
+
+
+def doubling(many):
+    """A part whose kind is that of x in a pair of the same in both halves, and so on so many times."""
+    if many == 1:
+        return "(pair x x)"
+    return f"(let x {doubling(many - many // 2)} {doubling(many // 2)})"
+
+
+# Programs as one would write them, each with lists of numbers for main.
+SAMPLES = {
+    "sum": ("""
+        fun main (n num) num = (call sum (cons n (nil num)));
+        fun sum (l list num) num = (if (none l) 0 (plus (head l) (call sum (tail l))))""", [[5], [-5]]),
+    "sort": ("""
+        fun main (a num, b num, c num, d num) list num =
+            (call sort (cons a (cons b (cons c (cons d (nil num))))));
+        fun sort (l list num) list num = (if (none l) l (call put (head l) (call sort (tail l))));
+        fun put (n num, l list num) list num =
+            (if (none l) (cons n (nil num))
+                (if (less (head l) n) (cons (head l) (call put n (tail l))) (cons n l)))""",
+             [[4, 3, 2, 1], [1, 2, 3, 4], [2, 2, -7, 2], [0, 0, 0, 0]]),
+    "turn": ("""
+        fun main (n num) pair list num list num =
+            (let l (call down n) (pair (call turn l (nil num)) (call copy l)));
+        fun down (n num) list num = (if n (cons n (call down (minus n 1))) (nil num));
+        fun turn (l list num, m list num) list num = (if (none l) m (call turn (tail l) (cons (head l) m)));
+        fun copy (l list num) list num = (if (none l) (nil num) (cons (head l) (call copy (tail l))))""",
+             [[0], [1], [7], [11], [12]]),
+    "swap": ("""
+        fun main (n num) num = (call f n (cons 1 (nil num)) (cons 2 (cons 3 (nil num))));
+        fun f (n num, a list num, b list num) num = (if n (call f (minus n 1) b a) (head a))""",
+             [[0], [1], [2], [10], [11], [12]]),
+    "ring": ("""
+        fun main (n num) list list num = (call even n (nil list num) (cons n (nil num)));
+        fun even (n num, m list list num, l list num) list list num =
+            (if n (call odd (minus n 1) (cons l m) (cons n l)) m);
+        fun odd (n num, m list list num, l list num) list list num =
+            (if n (call even (minus n 1) m (tail l)) (cons (tail l) m))""", [[0], [1], [2], [3], [8], [11], [13]]),
+    "zip": ("""
+        fun main (n num) list pair num num = (let l (call down n) (call zip l (call add 10 l)));
+        fun down (n num) list num = (if (less n 1) (nil num) (cons n (call down (minus n 1))));
+        fun add (n num, l list num) list num =
+            (if (none l) l (cons (plus n (head l)) (call add n (tail l))));
+        fun zip (l list num, m list num) list pair num num =
+            (if (none l) (nil pair num num)
+                (cons (pair (head l) (head m)) (call zip (tail l) (tail m))))""", [[0], [1], [2], [9], [-4]]),
+    "fib": ("fun main (n num) num = (if (less n 2) n (plus (call main (minus n 1)) (call main (minus n 2))))",
+            [[0], [1], [8], [10], [11]]),
+    "fresh": ("""
+        fun main (n num) num = (call go n (pair n n));
+        fun go (n num, p pair num num) num =
+            (if n (plus (first p) (call go (minus n 1) (pair (second p) n))) (second p))""",
+              [[0], [1], [5], [11], [12]]),
+}

@@ -5,7 +5,7 @@ import unittest
 from fieldgate.errors import GateError, NoKind
 from fieldgate.kinds import kind_of, look_over
 from fieldgate.reading import read
-from making import inner, kept, program_made
+from making import doubling, inner, kept, program_made
 
 NUM = ("num",)
 NUMS = ("list", NUM)
@@ -183,6 +183,15 @@ class Programs(unittest.TestCase):
     def test_functions_that_main_does_not_call(self):
         self.refused("fun main () num = 1; fun f () num = (plus 1 (nil num))")
         self.refused("fun main () num = 1; fun f () num = (call f 1)")
+
+    def test_kinds_of_a_great_length(self):
+        """A kind may have words by the hundreds of millions; no refusal writes them out."""
+        for many in (16, 28):
+            for body in ["(plus 1 PART)", "(head PART)", "(if 1 1 PART)", "(call main PART)", "PART"]:
+                with self.assertRaises(NoKind) as caught:
+                    read(f"fun main (x num) num = {body.replace('PART', doubling(many))}")
+                self.assertLess(len(str(caught.exception)), 1000)
+            self.assertEqual(len(read(f"fun main (x num) num = (let y {doubling(many)} 0)")), 1)
 
     def test_each_part_of_made_programs(self):
         """Every part within has a kind, and putting one of another kind in a body's place is refused."""
