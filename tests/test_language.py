@@ -210,6 +210,25 @@ class Language(unittest.TestCase):
         values = {node.attr for where, node in self.each(ast.Attribute) if isinstance(node.ctx, ast.Store)}
         self.assertEqual(methods & values, set())
 
+    def test_names_of_methods_and_values(self):
+        pythons = {name for kind in (str, int, list, tuple, dict, set, bytes) for name in dir(kind)}
+        free = {"count", "index", "title", "find", "get", "join", "lower", "upper", "split", "strip", "copy", "add"}
+        for where, node in self.each(ast.Attribute):
+            if isinstance(node.ctx, ast.Store):
+                self.assertNotIn(node.attr, (pythons - free) | {"args"}, where)
+        for where, node in self.each(ast.ClassDef):
+            names = [within.name for within in node.body if isinstance(within, ast.FunctionDef)]
+            self.assertEqual(len(names), len(set(names)), where)
+            for name in names:
+                self.assertNotIn(name, pythons - METHODS - DOUBLE - {"add", "discard"}, where)
+
+    def test_sets_are_not_kept(self):
+        for where, node in self.each(ast.AST):
+            for within in ast.iter_child_nodes(node):
+                if isinstance(within, ast.Call) and getattr(within.func, "id", "") in ("set", "frozenset"):
+                    asked = isinstance(node, ast.Call) and getattr(node.func, "id", "") in ("sorted", "len")
+                    self.assertTrue(asked or isinstance(node, (ast.BinOp, ast.Compare)), where)
+
     def test_errors_that_are_taken(self):
         for where, node in self.each(ast.ExceptHandler):
             self.assertIsNotNone(node.type, where)
