@@ -62,6 +62,16 @@ def with_inner(part, parts):
     return part[:len(part) - len(parts)] + tuple(parts)
 
 
+# The fields of all brackets right round a placed part, the outermost first, and the part within them. Taken
+# at once, since a bracket lies in no bound of depth, and Python's own calls need go no deeper for it.
+def unbracketed(part):
+    fields = []
+    while part[0] == "field":
+        fields.append(part[1])
+        part = part[2]
+    return (fields, part)
+
+
 # The fields of kinds with fields, each as often as it stands there.
 def fields_of_kinds(kinds):
     fields = []

@@ -74,6 +74,14 @@ def told(value):
     return members
 
 
+# Asked at each call, of the calls that were begun and those that are under way ahead of it.
+def want_few_calls(begun, under_way, most):
+    if begun + 1 > most:
+        raise TooLong("more calls than the most")
+    if under_way + 1 > MOST_UNDER_WAY:
+        raise TooDeep(f"more than {MOST_UNDER_WAY} calls under way at once")
+
+
 # A run keeps piles of its own, and no part is worked out within another one's working out:
 # how deep Python's own calls may go is then no matter, however deep the bodies and the calls are.
 class PlainRun:
@@ -128,10 +136,7 @@ class PlainRun:
             self.waiting.append(come_of(part[0], given))
 
     def call(self, name, given):
-        if self.begun + 1 > self.most:
-            raise TooLong("more calls than the most")
-        if self.under_way + 1 > MOST_UNDER_WAY:
-            raise TooDeep(f"more than {MOST_UNDER_WAY} calls under way at once")
+        want_few_calls(self.begun, self.under_way, self.most)
         self.begun = self.begun + 1
         self.under_way = self.under_way + 1
         self.put_off("back", None, None)

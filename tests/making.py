@@ -82,14 +82,16 @@ def kind_made(dice, most):
 class Maker:
     """Makes parts of a wanted kind, for a given list of functions (name, takers, kind)."""
 
-    def __init__(self, dice, heads):
+    def __init__(self, dice, heads, ifs=True):
         self.dice = dice
         self.heads = heads
+        self.ifs = ifs
 
     def part(self, kind, known, deep):
         ways = [self.plain]
         if deep > 0:
-            ways += [self.made, self.made, self.taken, self.let, self.choice, self.call, self.name]
+            ways += [self.made, self.made, self.taken, self.let, self.call, self.name]
+            ways += [self.choice] if self.ifs else [self.call]
         return self.dice.choice(ways)(kind, known, deep)
 
     def name(self, kind, known, deep):
@@ -169,17 +171,34 @@ def heads_made(dice, many):
     return heads
 
 
-def program_made(seed):
-    """A program that fits all points, within the bounds of point 5."""
+def called_by(heads, number):
+    """The functions that one may call where none calls itself: main all others, each other one those behind it."""
+    if heads[number][0] == "main":
+        return [head for head in heads if head[0] != "main"]
+    return [head for head in heads[number + 1:] if head[0] != "main"]
+
+
+def program_made(seed, rings=True, ifs=True, least=0):
+    """A program that fits all points, within the bounds of point 5, with at least so many parts in main.
+
+    Without rings no function calls itself, by whatever many others; without ifs there is no if.
+    """
     dice = random.Random(seed)
     while True:
         heads = heads_made(dice, dice.randint(1, 6))
-        maker = Maker(dice, heads)
-        program = [(name, list(takers), kind, maker.part(kind, dict(takers), dice.randint(0, 4)))
-                   for name, takers, kind in heads]
+        program = []
+        for number, (name, takers, kind) in enumerate(heads):
+            maker = Maker(dice, heads if rings else called_by(heads, number), ifs)
+            program.append((name, list(takers), kind, maker.part(kind, dict(takers), dice.randint(0, 4))))
         # Blanks may treble a text, and a little room is kept for them.
-        if sum(count(function[3]) for function in program) <= 120 and len(text_of(program)) <= 1500:
+        fits = sum(count(function[3]) for function in program) <= 120 and len(text_of(program)) <= 1500
+        if fits and count(main_of(program)[3]) >= least:
             return program
+
+
+def main_of(program):
+    """The function of a program, be it fielded or placed, that is called main."""
+    return [function for function in program if function[0] == "main"][0]
 
 
 def all_words(program):

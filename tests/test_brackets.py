@@ -8,7 +8,7 @@ from fieldgate.errors import Empty, GateError, TooDeep, TooGreat, TooLong
 from fieldgate.fielding import fielded
 from fieldgate.plainly import plain_run
 from fieldgate.reading import read
-from making import SAMPLES, all_whole, kept, program_made, spoilt
+from making import SAMPLES, all_whole, kept, main_of, program_made, spoilt
 
 NUM = ("num",)
 N = ("name", "n")
@@ -50,7 +50,8 @@ def sign_fields(sign):
 
 
 class Field:
-    def __init__(self):
+    def __init__(self, number):
+        self.number = number
         self.open = True
 
 
@@ -66,13 +67,32 @@ class Broken(Exception):
 
 
 class Runner:
-    """Runs a placed program with fields that are open or shut."""
+    """Runs a placed program with fields that are open or shut; log is the log of point 17.
+
+    Frames has, for each opening, cell laid, look and call, its word and the fields of the frame in which it is:
+    those of the touched fields of the function, in order, and then those of the brackets round the place.
+    """
 
     def __init__(self, program, most):
         self.functions = {function[0]: function for function in program}
         self.most = most
         self.calls = 0
         self.opened = 0
+        self.log = []
+        self.frames = []
+
+    def open_field(self):
+        field = Field(self.opened)
+        self.opened += 1
+        self.log.append(("open", field.number))
+        return field
+
+    def shut_field(self, field):
+        field.open = False
+        self.log.append(("shut", field.number))
+
+    def at(self, word, fields):
+        self.frames.append((word, [field.number for field in fields.values()]))
 
     def told(self, value):
         if not isinstance(value, Cell):
@@ -96,10 +116,9 @@ class Runner:
         if word == "field":
             if part[1] in fields:
                 raise Broken("a field is opened within itself")
-            field = Field()
-            self.opened += 1
+            field = self.open_field()
             value = self.work(part[2], names, {**fields, part[1]: field}, depth)
-            field.open = False
+            self.shut_field(field)
             return value
         if word == "let":
             return self.work(part[3], {**names, part[1]: self.work(part[2], names, fields, depth)}, fields, depth)
@@ -112,7 +131,9 @@ class Runner:
         if word == "call":
             return self.call(part, given, fields, depth)
         if word in TOUCHING:
-            return self.touch(word, fields[part[1]], given)
+            value = self.touch(word, fields[part[1]], given)
+            self.at("lay" if word in ("pair", "cons") else "look", fields)
+            return value
         return self.reckon(word, given)
 
     def call(self, part, given, fields, depth):
@@ -123,6 +144,7 @@ class Runner:
         self.calls += 1
         name, names, sign, body = self.functions[part[1]]
         frame = {number: fields[its] for number, its in zip(sign[2], part[2], strict=True)}
+        self.at("call", frame)
         return self.work(body, dict(zip(names, given)), frame, depth + 1)
 
     def touch(self, word, field, given):
@@ -130,11 +152,13 @@ class Runner:
             cell = Cell(word, field, given[0], given[1])
             if self.size(cell) > 1000:
                 raise TooGreat
+            self.log.append(("lay", field.number))
             return cell
         if given[0] is None:
             raise Empty
         if given[0].field is not field or not field.open:
             raise Broken("looked at in another field, or in one that is shut")
+        self.log.append(("look", field.number))
         return given[0].both[0 if word in ("first", "head") else 1]
 
     def reckon(self, word, given):
@@ -147,8 +171,11 @@ class Runner:
 
     def run(self, numbers):
         name, names, sign, body = self.functions["main"]
-        value = self.work(body, dict(zip(names, numbers)), {field: Field() for field in sign[2]}, 0)
-        return self.told(value)
+        fields = {field: self.open_field() for field in sign[2]}
+        value = self.told(self.work(body, dict(zip(names, numbers)), fields, 0))
+        for field in reversed(list(fields.values())):
+            self.shut_field(field)
+        return value
 
 
 def outcome(run):
@@ -372,10 +399,10 @@ class Runs(unittest.TestCase):
         for seed in range(700):
             program = program_made(seed)
             dice = random.Random(seed)
-            takers = len([function for function in program if function[0] == "main"][0][1])
+            takers = main_of(program)[1]
             for most in (5, 200):
                 with self.subTest(seed, most=most):
-                    found, fields = self.compare(program, [dice.randint(-2, 3) for taker in range(takers)], most)
+                    found, fields = self.compare(program, [dice.randint(-2, 3) for taker in takers], most)
                     many += not isinstance(found, type)
                     opened += fields
         self.assertGreater(many, 300)

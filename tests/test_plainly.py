@@ -6,7 +6,7 @@ import unittest
 from fieldgate.errors import Empty, GateError, TooDeep, TooGreat, TooLong
 from fieldgate.plainly import plain_run
 from fieldgate.reading import read
-from making import SAMPLES, all_whole, all_words, doubling, inner, kept, program_made, spoilt
+from making import SAMPLES, all_whole, all_words, doubling, inner, kept, main_of, program_made, spoilt
 
 BIG = 10 ** 30 - 1
 # grow lays eight times two to the power of d members in front of l.
@@ -526,7 +526,7 @@ class AsTold(unittest.TestCase):
             program = program_made(seed)
             words |= all_words(program)
             dice = random.Random(seed)
-            takers = len([function for function in program if function[0] == "main"][0][1])
+            takers = len(main_of(program)[1])
             for most in (200, 0, 1, 5, 30, 400):
                 numbers = [dice.choice([0, 0, 1, 2, -1, 5, 10 ** 59, -(10 ** 60) + 1]) for taker in range(takers)]
                 before = kept((program, numbers))
